@@ -39,9 +39,16 @@ def parts(term):
 
 def same(one, other):
     """Whether two terms are the same, however deep they are."""
-    # The signs of all parts, in order, tell the term; == of the terms themselves
-    # would go as deep as they are.
-    return [sign(part) for part in parts(one)] == [sign(part) for part in parts(other)]
+    # == of the terms themselves would go as deep as they are. Both are gone through
+    # together, so that no more is looked at than the lesser one has parts: the other
+    # may have one part in so many places that they can't all be gone through.
+    waiting = [(one, other)]
+    while waiting:
+        first, second = waiting.pop()
+        if sign(first) != sign(second):
+            return False
+        waiting.extend(list(zip(inner(first), inner(second))))
+    return True
 
 
 def deep(term):
@@ -69,9 +76,8 @@ def names_in(terms):
     return list(found)
 
 
-def under(term, pairs):
-    """The term with the term of its pair in the place of each name that has one."""
-    worth = {name: put for name, put in pairs}
+def put_in(term, worth):
+    """The term with what a dict has for it in the place of each name that the dict has."""
     built = []
     # Parts stand behind what they are parts of, so that going backwards the terms
     # in a part are built ahead of it, and its leftmost one last.
@@ -82,3 +88,8 @@ def under(term, pairs):
             within = [built.pop() for _ in part[1:]]
             built.append((part[0], *within))
     return built[0]
+
+
+def under(term, pairs):
+    """The term with the term of its pair in the place of each name that has one."""
+    return put_in(term, {name: put for name, put in pairs})
