@@ -19,6 +19,25 @@ def goals_of(step):
     return tuple(step[-1])
 
 
+def with_goals(step, goals):
+    """The step with these goals, as many as it has, in the place of its own."""
+    word = step[0]
+    if word == "fill":
+        return (word, goals[0], *step[2:])
+    if word == "put":
+        return word, step[1], goals[0], goals[1]
+    if word == "same":
+        return step
+    return (*step[:-1], tuple(goals))
+
+
+def renumbered(node, numbers):
+    """The node with its goals led to the nodes that a dict has for them."""
+    claim, step = node
+    goals = [None if goal is None else numbers[goal] for goal in goals_of(step)]
+    return claim, with_goals(step, goals)
+
+
 def name_at(at):
     """The text of small letters of this number: those of one letter, then of two, .."""
     text = ""

@@ -35,15 +35,27 @@ INTERFACE = {
     "rings": {
         "look": ["book", "paper", "most"], "way_ties": ["book", "paper", "way"],
         "closed": ["book", "paper", "most"]},
+    "unrolling": {
+        "Unrolling": ["book", "paper", "things", "whys"],
+        "unrolled": ["book", "paper", "things", "whys", "most"]},
+    "bare": {"bare": ["paper"], "run_bare": ["rows", "whys", "most"]},
+    "made": {
+        "filled": ["paper", "pairs"], "joined": ["one", "other"],
+        "once_more": ["paper", "n", "k"]},
+    "gathered": {"gathered": ["paper"], "trimmed": ["paper"]},
 }
 DEFAULTS = {
     ("against", "against"): {"most": 4}, ("steps", "claims_due"): {"goal_claim": None},
     ("rings", "look"): {"most": 2000}, ("rings", "closed"): {"most": 2000},
+    ("unrolling", "unrolled"): {"most": 5000}, ("bare", "run_bare"): {"most": 5000},
 }
 METHODS = {
     ("ties", "Ties"): {
         "arcs": [], "laid": ["other"], "itself": [], "falls_on": [], "__eq__": ["other"],
         "__len__": [], "__str__": []},
+    ("unrolling", "Unrolling"): {
+        "__init__": ["book", "paper", "things", "whys"], "turn": [], "stand": [], "outcome": [],
+        "__len__": []},
 }
 BUILTINS = (
     "len range enumerate zip min max sum abs sorted reversed int str bool bytes list tuple dict "
@@ -84,6 +96,13 @@ def own_names(tree):
         elif isinstance(node, ast.Assign):
             names.extend([target.id for target in node.targets])
     return names
+
+
+def taken_from_tables(tree):
+    """Local names for what stands in a table of functions at module level."""
+    return [node.targets[0].id for node in ast.walk(tree)
+            if isinstance(node, ast.Assign) and isinstance(node.value, ast.Subscript)
+            and isinstance(node.value.value, ast.Name) and node.value.value.id.isupper()]
 
 
 def files():
@@ -160,7 +179,7 @@ class Form(unittest.TestCase):
                    if isinstance(parent, ast.ClassDef) for node in parent.body
                    if isinstance(node, ast.FunctionDef)]
         for name, tree in trees():
-            own = own_names(tree)
+            own = own_names(tree) + taken_from_tables(tree)
             for node in ast.walk(tree):
                 if isinstance(node, ast.Call) and isinstance(node.func, ast.Name):
                     self.assertIn(node.func.id, [*own, *BUILTINS], name)
@@ -170,7 +189,7 @@ class Form(unittest.TestCase):
 
     def test_kinds_of_code(self):
         barred = (ast.GeneratorExp, ast.Yield, ast.YieldFrom, ast.Global, ast.Set, ast.Div,
-                  ast.AsyncFunctionDef, ast.Await, ast.Lambda, ast.Try)
+                  ast.AsyncFunctionDef, ast.Await, ast.Lambda)
         for name, tree in trees():
             for node in ast.walk(tree):
                 self.assertNotIsInstance(node, barred, name)
@@ -180,6 +199,34 @@ class Form(unittest.TestCase):
                     for sign, told in zip(node.ops, node.comparators):
                         if isinstance(sign, (ast.Is, ast.IsNot)):
                             self.assertIsInstance(told, ast.Constant, name)
+
+    def test_errors_caught(self):
+        """Own ones alone, by name, around a call; no name is given to two of a function."""
+        for name, tree in trees():
+            own = [told.name for node in tree.body if isinstance(node, ast.ImportFrom)
+                   and node.module == "leanround.errors" for told in node.names]
+            for function in ast.walk(tree):
+                if isinstance(function, ast.FunctionDef):
+                    given = [node.name for node in ast.walk(function)
+                             if isinstance(node, ast.ExceptHandler) and node.name]
+                    self.assertEqual(len(given), len(set(given)), name)
+                    for told in given:
+                        self.assertNotIn(told, bound_names(function), name)
+            for node in ast.walk(tree):
+                if isinstance(node, ast.Try):
+                    self.assertEqual((len(node.body), node.finalbody), (1, []), name)
+                if isinstance(node, ast.ExceptHandler):
+                    self.assertIsInstance(node.type, ast.Name, name)
+                    self.assertIn(node.type.id, own, name)
+
+    def test_len(self):
+        """What __len__ tells is a len."""
+        for name, tree in trees():
+            for node in ast.walk(tree):
+                if isinstance(node, ast.FunctionDef) and node.name == "__len__":
+                    for told in ast.walk(node):
+                        if isinstance(told, ast.Return):
+                            self.assertEqual(told.value.func.id, "len", name)
 
     def test_words(self):
         for name in files():
