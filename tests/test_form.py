@@ -43,6 +43,14 @@ INTERFACE = {
         "filled": ["paper", "pairs"], "joined": ["one", "other"],
         "once_more": ["paper", "n", "k"]},
     "gathered": {"gathered": ["paper"], "trimmed": ["paper"]},
+    "plain": {"look_plain": ["book", "paper"], "leaning": ["paper"]},
+    "writer": {
+        "term_text": ["term"], "claim_text": ["claim"], "book_text": ["book"],
+        "paper_text": ["paper"]},
+    "reader": {
+        "read_term": ["text"], "read_claim": ["text"], "read_book": ["text"],
+        "read_paper": ["text"]},
+    "desk": {"Desk": []},
 }
 DEFAULTS = {
     ("against", "against"): {"most": 4}, ("steps", "claims_due"): {"goal_claim": None},
@@ -56,6 +64,7 @@ METHODS = {
     ("unrolling", "Unrolling"): {
         "__init__": ["book", "paper", "things", "whys"], "turn": [], "stand": [], "outcome": [],
         "__len__": []},
+    ("desk", "Desk"): {"__init__": [], "say": ["row"]},
 }
 BUILTINS = (
     "len range enumerate zip min max sum abs sorted reversed int str bool bytes list tuple dict "
